@@ -1,0 +1,1 @@
+"""Flagplans: queues of jobs that wait for each other."""
