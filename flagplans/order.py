@@ -33,7 +33,7 @@ def is_ring(plan, value):
         return False
     if not all(has_job(plan[0], job) for job in value) or len(set(value)) < len(value):
         return False
-    return all(is_directly_before(plan, job, other) for job, other in zip(value, value[1:] + value[:1]))
+    return all([is_directly_before(plan, job, other) for job, other in zip(value, value[1:] + value[:1])])
 
 
 def ring_through(following, start):
@@ -88,6 +88,12 @@ def jobs_behind(following, start):
             behind[job] = True
             waiting.extend(following[job])
     return behind
+
+
+def later_jobs(plan):
+    """Return a dict from each job of a plan to a dict with all jobs as its keys that it is before."""
+    following = following_jobs(plan)
+    return {job: jobs_behind(following, job) for job in following}
 
 
 def is_before(plan, first, second):

@@ -49,7 +49,7 @@ def are_waits(sizes, value):
         return False
     if not all(can_wait(sizes, wait) for wait in value):
         return False
-    return all(wait < other for wait, other in zip(value, value[1:]))
+    return all([wait < other for wait, other in zip(value, value[1:])])
 
 
 def is_plan(value):

@@ -52,7 +52,7 @@ def has_form_of_moment(sizes, value):
     """Return True if the value, any value, is a moment of queues with these sizes, possible or not."""
     if not isinstance(value, tuple) or len(value) != len(sizes):
         return False
-    return all(is_below(many, size + 1) for many, size in zip(value, sizes))
+    return all([is_below(many, size + 1) for many, size in zip(value, sizes)])
 
 
 def is_moment(plan, value):

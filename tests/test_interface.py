@@ -13,6 +13,10 @@ FUNCTIONS = {
     "order": {"is_ring": 2, "shortest_ring": 1, "is_sound": 1, "is_before": 3},
     "runs": {
         "is_run": 2, "least_run": 1, "count_runs": 1, "is_moment": 2, "count_moments": 1, "moments": 1, "ready": 2},
+    "least": {"least_waits": 1, "least_plan": 1, "is_needed": 2, "same_runs": 2},
+    "opening": {"open_waits": 2, "most_open": 1, "busiest_moment": 1},
+    "flagging": {"may_share": 3, "is_flags": 2, "clash": 2},
+    "fewest": {"fewest_flags": 1, "assign_flags": 1},
 }
 
 

@@ -8,6 +8,8 @@ from pathlib import Path
 
 PACKAGE = Path(__file__).resolve().parent.parent / "flagplans"
 FILES = sorted(PACKAGE.glob("*.py"))
+# A doctest that ran before may have left its last result there.
+BUILTINS = set(dir(builtins)) - {"_"}
 ALLOWED_BUILTINS = """len range enumerate zip min max sum abs sorted reversed int str bool bytes list tuple dict set
     frozenset isinstance ord chr repr any all divmod pow ValueError""".split()
 BARRED_WORDS = """type typing typing_extensions enum Enum IntEnum StrEnum Flag IntFlag Generic Protocol ABC ABCMeta
@@ -87,12 +89,12 @@ class LanguageTest(unittest.TestCase):
             imported = {a.name for node in tree.body if isinstance(node, ast.ImportFrom) for a in node.names}
             top = [node.name for node in tree.body if isinstance(node, (ast.FunctionDef, ast.ClassDef))]
             self.assertEqual(len(top), len(set(top)))
-            self.assertEqual(set(top) & (imported | set(dir(builtins))), set())
+            self.assertEqual(set(top) & (imported | BUILTINS), set())
             for node in ast.walk(tree):
                 if isinstance(node, ast.FunctionDef):
-                    taken = bound_names(node) & (imported | set(top) | set(dir(builtins)))
+                    taken = bound_names(node) & (imported | set(top) | BUILTINS)
                     self.assertEqual(taken, set(), node.name)
-                if isinstance(node, ast.Name) and hasattr(builtins, node.id):
+                if isinstance(node, ast.Name) and node.id in BUILTINS:
                     self.assertIn(node.id, ALLOWED_BUILTINS, f"{path.name} line {node.lineno}")
                 if isinstance(node, (ast.Name, ast.Attribute)):
                     self.assertNotIn(node.id if isinstance(node, ast.Name) else node.attr, BARRED_WORDS)

@@ -98,6 +98,13 @@ class IsJobTest(FunctionTest):
 
 
 class HelpersTest(FunctionTest):
+    def test_known_jobs_and_waits(self):
+        for plan in samples.PLANS:
+            for job in samples.all_jobs(plan[0]):
+                self.assertIsNone(check_job(plan, job))
+            for wait in plan[1]:
+                self.assertIsNone(check_wait(plan, wait))
+
     def test_unknown_jobs_and_waits(self):
         for plan in samples.PLANS:
             for value in samples.ODD_VALUES + samples.variants(((0, 0), (1, 0))) + samples.variants((0, 0)):
