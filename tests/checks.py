@@ -4,25 +4,37 @@ import copy
 import unittest
 
 import samples
-from flagplans.errors import InvalidMoment, InvalidPlan, Unsound
+from flagplans.errors import InvalidFlags, InvalidMoment, InvalidPlan, UnknownJob, UnknownWait, Unsound
+
+
+def lists_in(value):
+    """All lists in a value, itself included."""
+    found = [value] if isinstance(value, list) else []
+    if isinstance(value, (list, tuple)):
+        for entry in value:
+            found.extend(lists_in(entry))
+    return found
 
 
 class FunctionTest(unittest.TestCase):
     """Tests of functions that take a plan."""
 
     def call(self, function, *arguments):
-        """Call a function: it modifies no argument, and answers the same again, by a new list if by a list."""
+        """Call a function: it modifies no argument, and answers the same again, by new lists wherever by lists."""
         before = copy.deepcopy(arguments)
         result = function(*arguments)
         again = function(*arguments)
         self.assertTrue(samples.same_kind(arguments, before), function)
         self.assertTrue(samples.same_kind(result, again), function)
-        if isinstance(result, list):
-            self.assertIsNot(result, again)
+        found = lists_in(again)
+        self.assertEqual(len({id(entry) for entry in found}), len(found), function)
+        if found:
             kept = copy.deepcopy(result)
-            again.append("more")
-            self.assertTrue(samples.same_kind(result, kept))
-            self.assertTrue(samples.same_kind(function(*arguments), kept))
+            for entry in found:
+                entry.append("more")
+            self.assertTrue(samples.same_kind(result, kept), function)
+            self.assertTrue(samples.same_kind(function(*arguments), kept), function)
+            self.assertTrue(samples.same_kind(arguments, before), function)
         return result
 
     def check_raises(self, error, function, *arguments):
@@ -58,3 +70,31 @@ class FunctionTest(unittest.TestCase):
             for value in odd:
                 if not samples.is_one_of(value, right):
                     self.check_raises(InvalidMoment, function, plan, value)
+
+    def check_unknown_waits(self, function, *others):
+        """No value is taken for a wait that is not one of the plan."""
+        for plan in (samples.PAIR, samples.DOUBLE, samples.EMPTY, samples.FULL[0]):
+            odd = samples.ODD_VALUES + [(), plan, plan[1], ((0, 1), (1, 0), 0), ((1, 0), (0, 0))]
+            for value in odd + samples.variants(((0, 0), (1, 0))):
+                if not samples.is_one_of(value, plan[1]):
+                    self.check_keeps(UnknownWait, "wait", function, value, plan, value, *others)
+
+    def check_invalid_flags(self, function, plans, *others):
+        """No value is taken for flags that is not flags for the plan."""
+        for plan in plans:
+            flags = tuple(range(len(plan[1])))
+            for value in samples.ODD_VALUES + samples.variants(flags) + [list(flags), flags + (0,), plan, plan[1]]:
+                if not samples.are_flags(plan, value):
+                    self.check_raises(InvalidFlags, function, plan, value, *others)
+
+    def check_unknown_jobs(self, function, plans, *others):
+        """No value is taken for a job that is not one of the plan: neither for the first, nor for the second one."""
+        for plan in plans:
+            right = samples.all_jobs(plan[0])
+            for value in samples.ODD_VALUES + samples.variants(right[-1]) + [(), plan, right]:
+                if not samples.is_one_of(value, right):
+                    self.check_keeps(UnknownJob, "job", function, value, plan, value, right[0], *others)
+                    self.check_keeps(UnknownJob, "job", function, value, plan, value, None, *others)
+                    self.check_keeps(UnknownJob, "job", function, value, plan, value, value, *others)
+                    self.check_keeps(UnknownJob, "job", function, value, plan, right[0], value, *others)
+                    self.check_keeps(UnknownJob, "job", function, value, plan, right[-1], value, *others)

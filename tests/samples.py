@@ -80,8 +80,8 @@ PLANS = SOUND_PLANS + MIXED_PLANS + RING_PLANS
 BIG_SOUND_PLANS = [WIDE, PARALLEL] + FULL
 # Values that look like plans, and are none.
 NO_PLANS = [
-    ((), ()), ((0, 0, 0, 0, 0), ()), ((7,), ()), ((-1,), ()), ((HUGE,), ()), ((True,), ()), ([1, 1], ()), ((1, 1), []),
-    [(1, 1), ()], ((1, 1),), ((1, 1), (), ()), ((1, 1), (((0, 0), (0, 0)),)), ((2,), (((0, 0), (0, 1)),)),
+    (), ((), ()), ((0, 0, 0, 0, 0), ()), ((7,), ()), ((-1,), ()), ((HUGE,), ()), ((True,), ()), ([1, 1], ()),
+    ((1, 1), []), [(1, 1), ()], ((1, 1),), ((1, 1), (), ()), ((1, 1), (((0, 0), (0, 0)),)), ((2,), (((0, 0), (0, 1)),)),
     ((1, 1), (((0, 0), (1, 1)),)), ((1, 1), (((0, 0), (2, 0)),)), ((1, 1), (((0, -1), (1, 0)),)),
     ((1, 1), (((-1, 0), (0, 0)),)), ((1, 1), (((0, 0), (True, 0)),)), ((1, 1), (((0, False), (1, 0)),)),
     ((1, 1), (((0, 0), [1, 0]),)), ((1, 1), ([(0, 0), (1, 0)],)), ((1, 1), (((0, 0), (1, 0), 0),)),
@@ -105,6 +105,20 @@ def before_pairs(plan):
         out = [b for b in jobs if (middle, b) in pairs]
         pairs |= {(a, b) for a in into for b in out}
     return pairs
+
+
+def least_waits(plan):
+    """All pairs of jobs of different queues, one before the other, without a job between them (point 7)."""
+    before = before_pairs(plan)
+    jobs = all_jobs(plan[0])
+    return tuple(sorted(
+        (a, b) for a, b in before
+        if a[0] != b[0] and not any((a, job) in before and (job, b) in before for job in jobs)))
+
+
+def without(plan, wait):
+    """The plan without a wait."""
+    return plan[0], tuple(other for other in plan[1] if other != wait)
 
 
 def has_ring(plan):
@@ -141,6 +155,20 @@ def finished_at(moment, job):
 def open_at(plan, moment):
     """The list of the waits that are open at a moment (point 8)."""
     return [(a, b) for a, b in plan[1] if finished_at(moment, a) and not finished_at(moment, b)]
+
+
+def are_flags(plan, value):
+    """Whether the value is flags for the plan (point 9)."""
+    if type(value) is not tuple or len(value) != len(plan[1]):
+        return False
+    return all(type(flag) is int and flag in range(24) for flag in value)
+
+
+def clashes_at(plan, flags, moment):
+    """Whether two different waits that are open at a moment have the same flag (point 9)."""
+    flag_of = dict(zip(plan[1], flags))
+    used = [flag_of[wait] for wait in open_at(plan, moment)]
+    return len(set(used)) < len(used)
 
 
 def variants(value):

@@ -3,20 +3,13 @@ import unittest
 
 import samples
 from checks import FunctionTest
-from flagplans.errors import InvalidFlags, UnknownWait
+from flagplans.errors import UnknownWait
 from flagplans.flagging import clash, is_flags, may_share
 
 
 def clash_by_point_9(plan, flags):
-    """The least possible moment at which two open waits have one flag, or None."""
-    flag_of = dict(zip(plan[1], flags))
-    for moment in samples.possible_moments(plan):
-        opened = samples.open_at(plan, moment)
-        for wait in opened:
-            for other in opened:
-                if wait != other and flag_of[wait] == flag_of[other]:
-                    return moment
-    return None
+    """The least possible moment at which the flags clash, or None."""
+    return next((moment for moment in samples.possible_moments(plan) if samples.clashes_at(plan, flags, moment)), None)
 
 
 class MayShareTest(FunctionTest):
@@ -48,12 +41,6 @@ class MayShareTest(FunctionTest):
         self.check_unsound(may_share, ((0, 0), (1, 0)), ((0, 0), (1, 0)))
 
 
-def is_flags_by_point_9(plan, value):
-    if type(value) is not tuple or len(value) != len(plan[1]):
-        return False
-    return all(type(flag) is int and flag in range(24) for flag in value)
-
-
 class IsFlagsTest(FunctionTest):
     def test_flags_and_changed_ones(self):
         for plan in samples.PLANS:
@@ -61,7 +48,7 @@ class IsFlagsTest(FunctionTest):
             for flags in ((0,) * many, (23,) * many, tuple(range(many))):
                 self.assertIs(self.call(is_flags, plan, flags), True)
                 for value in samples.variants(flags) + [list(flags), flags + (0,), flags[1:]]:
-                    self.assertIs(is_flags(plan, value), is_flags_by_point_9(plan, value))
+                    self.assertIs(is_flags(plan, value), samples.are_flags(plan, value))
 
     def test_numbers_just_outside(self):
         for flag in (-1, 24, 25, -24, samples.HUGE, True, False, None, "0", (0,)):
@@ -73,7 +60,7 @@ class IsFlagsTest(FunctionTest):
     def test_any_value(self):
         for plan in samples.PLANS:
             for value in samples.ODD_VALUES + [plan, plan[1], ()]:
-                self.assertIs(self.call(is_flags, plan, value), is_flags_by_point_9(plan, value))
+                self.assertIs(self.call(is_flags, plan, value), samples.are_flags(plan, value))
 
     def test_wrong_plans(self):
         self.check_invalid_plan(is_flags, (0, 1))
@@ -95,11 +82,7 @@ class ClashTest(FunctionTest):
         self.assertEqual(self.call(clash, samples.PARALLEL, tuple(range(11)) + (0,)), (1, 6, 0, 0))
 
     def test_no_flags(self):
-        for plan in samples.SOUND_PLANS:
-            flags = tuple(range(len(plan[1])))
-            for value in samples.ODD_VALUES + samples.variants(flags) + [list(flags)]:
-                if not is_flags_by_point_9(plan, value):
-                    self.check_raises(InvalidFlags, clash, plan, value)
+        self.check_invalid_flags(clash, samples.SOUND_PLANS)
 
     def test_wrong_plans_first(self):
         self.check_invalid_plan(clash, (0, 1))

@@ -17,6 +17,16 @@ FUNCTIONS = {
     "opening": {"open_waits": 2, "most_open": 1, "busiest_moment": 1},
     "flagging": {"may_share": 3, "is_flags": 2, "clash": 2},
     "fewest": {"fewest_flags": 1, "assign_flags": 1},
+    "counters": {"counters": 1},
+    "steps": {"steps": 2, "walk": 3},
+    "changes": {"add_wait": 3, "drop_wait": 2, "mirrored": 1, "side_by_side": 2},
+    "checker": {"check": 1},
+}
+# The methods of each class, with the number of their arguments beside the object itself.
+CLASSES = {
+    "workspace": {"Workspace": {
+        "__init__": 1, "add_job": 1, "add_wait": 2, "finish": 1, "take_back": 0, "mark": 0, "back": 1, "plan": 0,
+        "finished": 0, "marks": 0, "ready": 0, "open_waits": 0, "flags_needed": 0}},
 }
 
 
@@ -29,6 +39,16 @@ class InterfaceTest(unittest.TestCase):
                 self.assertTrue(inspect.isfunction(found))
                 self.assertEqual(found.__module__, module.__name__)
                 self.assertEqual(len(inspect.signature(found).parameters), many, function)
+
+    def test_methods_are_defined_in_the_class_itself(self):
+        for name, classes in CLASSES.items():
+            module = importlib.import_module("flagplans." + name)
+            for made, methods in classes.items():
+                found = getattr(module, made)
+                self.assertEqual(found.__module__, module.__name__)
+                for method, many in methods.items():
+                    self.assertTrue(inspect.isfunction(vars(found)[method]), method)
+                    self.assertEqual(len(inspect.signature(vars(found)[method]).parameters), many + 1, method)
 
 
 def load_tests(loader, tests, pattern):

@@ -18,6 +18,10 @@ BARRED_WORDS = """type typing typing_extensions enum Enum IntEnum StrEnum Flag I
 STATEMENTS = (
     ast.FunctionDef, ast.ClassDef, ast.ImportFrom, ast.Assign, ast.AugAssign, ast.Expr, ast.If, ast.While, ast.For,
     ast.Return, ast.Break, ast.Continue, ast.Pass, ast.Raise)
+BUILTIN_METHODS = """append clear copy count endswith extend find get index insert isalnum isalpha isdigit islower
+    isspace isupper items join keys ljust lower lstrip partition pop remove replace reverse rfind
+    rjust rpartition rsplit rstrip setdefault split splitlines startswith strip update upper values
+    zfill bit_length""".split()
 LIBRARY = {"heapq": "heappush heappop", "math": "gcd lcm", "itertools": "product combinations permutations"}
 
 
@@ -65,6 +69,40 @@ class LanguageTest(unittest.TestCase):
                         self.assertTrue(set(names) <= set(LIBRARY[node.module].split()))
                     else:
                         self.check_defined_there(node.module, names)
+
+    def test_what_is_imported_is_used(self):
+        for path, text, tree in self.trees():
+            imported = [alias.name for node in tree.body if isinstance(node, ast.ImportFrom) for alias in node.names]
+            used = {node.id for node in ast.walk(tree) if isinstance(node, ast.Name)}
+            self.assertEqual(set(imported) - used, set(), path.name)
+
+    def test_methods_are_those_of_builtin_values_or_own_ones(self):
+        own = {"__init__"}
+        for path, text, tree in self.trees():
+            for node in ast.walk(tree):
+                if isinstance(node, ast.ClassDef):
+                    own |= {inner.name for inner in node.body if isinstance(inner, ast.FunctionDef)}
+        self.assertEqual(own & set(BUILTIN_METHODS), set())
+        for path, text, tree in self.trees():
+            for node in ast.walk(tree):
+                if isinstance(node, ast.Call) and isinstance(node.func, ast.Attribute):
+                    self.assertIn(node.func.attr, own | set(BUILTIN_METHODS), f"{path.name} line {node.lineno}")
+
+    def test_no_name_is_a_method_and_an_attribute(self):
+        methods, attributes = set(), set()
+        for path, text, tree in self.trees():
+            for node in ast.walk(tree):
+                if isinstance(node, ast.ClassDef):
+                    methods |= {inner.name for inner in node.body if isinstance(inner, ast.FunctionDef)}
+                if isinstance(node, ast.Attribute) and isinstance(node.ctx, ast.Store):
+                    attributes.add(node.attr)
+        self.assertEqual(methods & attributes, set())
+
+    def test_identity_is_asked_of_none_and_bools_only(self):
+        for path, text, tree in self.trees():
+            for node in ast.walk(tree):
+                if isinstance(node, ast.Compare) and isinstance(node.ops[0], (ast.Is, ast.IsNot)):
+                    self.assertIsInstance(node.comparators[0], ast.Constant, f"{path.name} line {node.lineno}")
 
     def check_defined_there(self, module, names):
         folder, name = module.split(".")

@@ -2,30 +2,17 @@ import unittest
 
 import samples
 from checks import FunctionTest
-from flagplans.errors import InvalidPlan, Unsound, UnknownWait
+from flagplans.errors import InvalidPlan, Unsound
 from flagplans.least import is_needed, least_plan, least_waits, same_runs
 from flagplans.runs import count_runs
 
 PLANS = samples.SOUND_PLANS + samples.BIG_SOUND_PLANS
 
 
-def least_by_point_7(plan):
-    """All pairs of jobs of different queues, one before the other, without a job between them."""
-    before = samples.before_pairs(plan)
-    jobs = samples.all_jobs(plan[0])
-    return tuple(sorted(
-        (a, b) for a, b in before
-        if a[0] != b[0] and not any((a, job) in before and (job, b) in before for job in jobs)))
-
-
-def without(plan, wait):
-    return plan[0], tuple(other for other in plan[1] if other != wait)
-
-
 class LeastWaitsTest(FunctionTest):
     def test_all_pairs(self):
         for plan in PLANS:
-            expected = least_by_point_7(plan)
+            expected = samples.least_waits(plan)
             self.assertTrue(samples.same_kind(self.call(least_waits, plan), expected))
             self.assertTrue(samples.same_kind(self.call(least_plan, plan), (plan[0], expected)))
             self.assertTrue(set(expected) <= set(plan[1]))
@@ -55,16 +42,12 @@ class IsNeededTest(FunctionTest):
         for plan in PLANS:
             runs = count_runs(plan)
             for wait in plan[1]:
-                more = count_runs(without(plan, wait)) > runs
+                more = count_runs(samples.without(plan, wait)) > runs
                 self.assertIs(self.call(is_needed, plan, wait), more)
-                self.assertIs(wait in least_by_point_7(plan), more)
+                self.assertIs(wait in samples.least_waits(plan), more)
 
     def test_unknown_waits(self):
-        for plan in (samples.PAIR, samples.DOUBLE, samples.EMPTY, samples.FULL[0]):
-            odd = samples.ODD_VALUES + [plan, plan[1], ((0, 1), (1, 0), 0), ((1, 0), (0, 0))]
-            for value in odd + samples.variants(((0, 0), (1, 0))):
-                if not samples.is_one_of(value, plan[1]):
-                    self.check_keeps(UnknownWait, "wait", is_needed, value, plan, value)
+        self.check_unknown_waits(is_needed)
 
     def test_wrong_plans_first(self):
         self.check_invalid_plan(is_needed, ((0, 0), (1, 0)))
@@ -83,7 +66,7 @@ class SameRunsTest(FunctionTest):
             self.check(plan, least_plan(plan))
             self.check(plan, (plan[0], ()))
             for wait in plan[1]:
-                self.check(plan, without(plan, wait))
+                self.check(plan, samples.without(plan, wait))
             for pair in sorted(samples.before_pairs(plan))[:12]:
                 if pair[0][0] != pair[1][0] and pair not in plan[1] and len(plan[1]) < 24:
                     self.check(plan, (plan[0], tuple(sorted(plan[1] + (pair,)))))
