@@ -21,6 +21,9 @@ FUNCTIONS = {
     "steps": {"steps": 2, "walk": 3},
     "changes": {"add_wait": 3, "drop_wait": 2, "mirrored": 1, "side_by_side": 2},
     "checker": {"check": 1},
+    "endless": {"is_endless": 1, "links_of": 1, "is_circle": 2, "zero_circle": 1},
+    "gaps": {"gap": 3, "gap_row": 3, "gap_heights": 3, "are_heights": 2, "is_ahead": 3},
+    "standings": {"is_standing": 2, "finished_rounds": 3, "ready_queues": 2, "is_walk": 2, "walk_to": 2},
 }
 # The methods of each class, with the number of their arguments beside the object itself.
 CLASSES = {

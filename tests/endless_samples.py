@@ -1,0 +1,196 @@
+"""Endless plans for the tests, and what the document says of them, worked out as directly as possible."""
+
+import random
+
+from samples import HUGE, all_jobs
+
+
+def queue_links(sizes):
+    """The links from each job to the next one of its queue, and from the last one to the first one (point 18)."""
+    found = []
+    for queue, size in enumerate(sizes):
+        found += [((queue, place), (queue, place + 1), 0) for place in range(size - 1)]
+        found.append(((queue, size - 1), (queue, 0), 1))
+    return found
+
+
+def all_links(plan):
+    return queue_links(plan[0]) + list(plan[1])
+
+
+def has_zero_circle(plan):
+    """Whether jobs are left when, again and again, those go to which no link of the distance 0 leads from one left."""
+    left = set(all_jobs(plan[0]))
+    ties = [(first, second) for first, second, distance in all_links(plan) if distance == 0]
+    while True:
+        free = left - {second for first, second in ties if first in left}
+        if not free:
+            return bool(left)
+        left -= free
+
+
+def random_endless(rng, sizes, many, distances=(0, 1, 2, 3)):
+    """An endless plan, sound or not, with at most so many waits."""
+    jobs = all_jobs(sizes)
+    waits = [(a, b, d) for a in jobs for b in jobs if a[0] != b[0] for d in distances]
+    return tuple(sizes), tuple(sorted(rng.sample(waits, min(many, len(waits)))))
+
+
+def random_plans(seed, count, largest, most, distances=(0, 1, 2, 3)):
+    """Random endless plans with queues of at most so many jobs and at most so many waits."""
+    rng = random.Random(seed)
+    plans = []
+    for _ in range(count):
+        sizes = [rng.randint(1, largest) for _ in range(rng.randint(1, 4))]
+        plans.append(random_endless(rng, sizes, rng.randint(0, most), distances))
+    return plans
+
+
+PAIR = ((1, 1), (((0, 0), (1, 0), 0), ((1, 0), (0, 0), 2)))
+LINE = ((2, 1), (((0, 1), (1, 0), 0), ((1, 0), (0, 0), 1)))
+SINGLE = ((1,), ())
+APART = ((2, 3, 1), (((0, 1), (1, 0), 0),))
+# The gap from the job (0, 1) to the job (3, 2) is 13: the greatest one that four queues of four jobs can have.
+FAR = ((4, 4, 4, 4), (((0, 0), (1, 3), 3), ((1, 0), (2, 3), 3), ((2, 0), (3, 3), 3)))
+TWO_JOBS_STUCK = ((1, 1), (((0, 0), (1, 0), 0), ((1, 0), (0, 0), 0)))
+LATE_STUCK = ((3, 2, 4), (
+    ((0, 1), (1, 0), 0), ((0, 1), (1, 0), 1), ((1, 1), (2, 2), 0), ((2, 0), (0, 0), 3), ((2, 3), (0, 0), 0)))
+
+MIXED_PLANS = (
+    random_plans(1, 60, 2, 5) + random_plans(2, 40, 4, 12) + random_plans(3, 40, 4, 12, (0, 1)) +
+    random_plans(4, 40, 4, 5, (0,)) + random_plans(5, 20, 4, 12, (1, 2, 3)))
+SOUND_PLANS = [PAIR, LINE, SINGLE, APART, FAR, ((4, 4, 4, 4), ()), ((1, 1, 1, 1), ())] + [
+    plan for plan in MIXED_PLANS if not has_zero_circle(plan)]
+STUCK_PLANS = [TWO_JOBS_STUCK, LATE_STUCK] + [plan for plan in MIXED_PLANS if has_zero_circle(plan)][:20]
+PLANS = SOUND_PLANS + STUCK_PLANS
+SMALL_PLANS = [plan for plan in PLANS if sum(plan[0]) <= 6 and len(plan[1]) <= 6]
+SMALL_SOUND_PLANS = [plan for plan in SMALL_PLANS if plan in SOUND_PLANS]
+
+WAIT = ((0, 0), (1, 0), 0)
+# Values that look like endless plans, and are none.
+NO_PLANS = [
+    (), ((), ()), ((1, 1, 1, 1, 1), ()), ((0,), ()), ((5,), ()), ((1, 0), ()), ((1, 5), ()), ((-1,), ()), ((True,), ()),
+    ((1, True), ()), ((HUGE,), ()), ((None,), ()), (("1",), ()), ([1, 1], ()), ((1, 1), []), [(1, 1), ()],
+    ((1, 1),), ((1, 1), (), ()), (1, ()), ("ab", ()), ((1, 1), "ab"), ((1, 1), None), ((1, 1), (None,)),
+    ((1, 1), ((),)), ((1, 1), (((0, 0), (1, 0)),)), ((1, 1), (((0, 0), (1, 0), 0, 0),)),
+    ((1, 1), (((0, 0), (1, 0), -1),)), ((1, 1), (((0, 0), (1, 0), 4),)), ((1, 1), (((0, 0), (1, 0), HUGE),)),
+    ((1, 1), (((0, 0), (1, 0), False),)), ((1, 1), (((0, 0), (1, 0), True),)), ((1, 1), (((0, 0), (1, 0), None),)),
+    ((1, 1), (((0, 0), (1, 0), "0"),)), ((1, 1), (((0, 0), (0, 0), 1),)), ((2,), (((0, 0), (0, 1), 1),)),
+    ((1, 1), (((0, 0), (1, 1), 0),)), ((1, 1), (((0, 0), (2, 0), 0),)), ((1, 1), (((0, -1), (1, 0), 0),)),
+    ((1, 1), (((0, 0), (True, 0), 0),)), ((1, 1), (((0, False), (1, 0), 0),)), ((1, 1), ([(0, 0), (1, 0), 0],)),
+    ((1, 1), (((0, 0), [1, 0], 0),)), ((1, 1), (((0, 0, 0), (1, 0), 0),)), ((1, 1), (WAIT, WAIT)),
+    ((1, 1), (((0, 0), (1, 0), 1), WAIT)), ((1, 1), (((1, 0), (0, 0), 0), WAIT)), ((1, 1), [WAIT]),
+]
+
+
+def is_link(plan, value):
+    """Whether a value is a link of the plan, with integers throughout."""
+    if type(value) is not tuple or len(value) != 3 or type(value[2]) is not int:
+        return False
+    for job in value[:2]:
+        if type(job) is not tuple or [type(number) for number in job] != [int, int]:
+            return False
+    return value in all_links(plan)
+
+
+def is_row(plan, value, first, second):
+    """Whether a value is a row of links that leads from the first job to the second one."""
+    if type(value) is not list or not all(is_link(plan, link) for link in value):
+        return False
+    job = first
+    for link in value:
+        if link[0] != job:
+            return False
+        job = link[1]
+    return job == second
+
+
+def is_circle(plan, value):
+    """Whether a value is a circle of the plan (point 18)."""
+    if type(value) is not list or not value or not is_link(plan, value[0]):
+        return False
+    if not is_row(plan, value, value[0][0], value[0][0]):
+        return False
+    return len({link[0] for link in value}) == len(value)
+
+
+def gap_table(plan):
+    """A dict from each pair of jobs to the least distance of a row between them; pairs without one are left out."""
+    jobs = all_jobs(plan[0])
+    least = {(job, job): 0 for job in jobs}
+    for first, second, distance in all_links(plan):
+        least[first, second] = min(distance, least.get((first, second), distance))
+    for middle in jobs:
+        for first in jobs:
+            for second in jobs:
+                if (first, middle) in least and (middle, second) in least:
+                    through = least[first, middle] + least[middle, second]
+                    least[first, second] = min(through, least.get((first, second), through))
+    return least
+
+
+def turns_of(sizes, standing):
+    """The set of the turns that are finished at a standing, each queue doing all its jobs round by round."""
+    found = set()
+    for queue, many in enumerate(standing):
+        for number in range(many):
+            found.add(((queue, number % sizes[queue]), number // sizes[queue]))
+    return found
+
+
+def turns_ahead(plan, turn):
+    """The set of all turns that must be finished before a turn begins, by what the links mean (point 18)."""
+    found = set()
+    waiting = [turn]
+    while waiting:
+        job, number = waiting.pop()
+        for first, second, distance in all_links(plan):
+            if second == job and number >= distance and (first, number - distance) not in found:
+                found.add((first, number - distance))
+                waiting.append((first, number - distance))
+    return found
+
+
+def is_finished(sizes, standing, turn):
+    """Whether a turn is finished at a standing: as the turn number so and so of its queue, counted from 0."""
+    (queue, place), number = turn
+    return number * sizes[queue] + place < standing[queue]
+
+
+def may_begin(plan, standing, turn):
+    """Whether all turns are finished at a standing that a link names for this turn."""
+    job, number = turn
+    ahead = [(first, number - distance) for first, second, distance in all_links(plan) if second == job]
+    return all(is_finished(plan[0], standing, (first, late)) for first, late in ahead if late >= 0)
+
+
+def is_possible(plan, standing):
+    """Whether no turn is finished at a standing that a link lets begin later only (points 18 and 20)."""
+    return all(may_begin(plan, standing, turn) for turn in turns_of(plan[0], standing))
+
+
+def ready_at(plan, standing):
+    """The ascending list of the queues whose next turn may begin at a possible standing."""
+    found = []
+    for queue, size in enumerate(plan[0]):
+        if may_begin(plan, standing, ((queue, standing[queue] % size), standing[queue] // size)):
+            found.append(queue)
+    return found
+
+
+def one_more(standing, queue):
+    """The standing with one more turn of a queue."""
+    return tuple(many + (number == queue) for number, many in enumerate(standing))
+
+
+def random_walk(rng, plan, many, queues=(0, 1, 2, 3)):
+    """A walk of these queues with so many turns, or fewer, if none of them is ready any more, and where it leads to."""
+    walk = []
+    standing = (0,) * len(plan[0])
+    while len(walk) < many:
+        ready = [queue for queue in ready_at(plan, standing) if queue in queues]
+        if not ready:
+            break
+        walk.append(rng.choice(ready))
+        standing = one_more(standing, walk[-1])
+    return walk, standing
