@@ -114,6 +114,18 @@ def is_circle(plan, value):
     return len({link[0] for link in value}) == len(value)
 
 
+def circles_of(plan):
+    """All circles of a small plan, each as often as it has links, from each of them on."""
+    links = all_links(plan)
+    found = []
+    rows = [[link] for link in links]
+    while rows:
+        found += [row for row in rows if row[-1][1] == row[0][0]]
+        rows = [row + [link] for row in rows for link in links if row[-1][1] == link[0]]
+        rows = [row for row in rows if len({link[0] for link in row}) == len(row)]
+    return found
+
+
 def gap_table(plan):
     """A dict from each pair of jobs to the least distance of a row between them; pairs without one are left out."""
     jobs = all_jobs(plan[0])
@@ -169,6 +181,15 @@ def is_possible(plan, standing):
     return all(may_begin(plan, standing, turn) for turn in turns_of(plan[0], standing))
 
 
+def is_standing(plan, value):
+    """Whether a value, in which no number is great, is a possible standing of the plan."""
+    if type(value) is not tuple or len(value) != len(plan[0]):
+        return False
+    if not all(type(many) is int and many >= 0 for many in value):
+        return False
+    return is_possible(plan, value)
+
+
 def ready_at(plan, standing):
     """The ascending list of the queues whose next turn may begin at a possible standing."""
     found = []
@@ -194,3 +215,79 @@ def random_walk(rng, plan, many, queues=(0, 1, 2, 3)):
         walk.append(rng.choice(ready))
         standing = one_more(standing, walk[-1])
     return walk, standing
+
+
+def walks(seed, plans, lengths):
+    """Some walks of each plan, with the standings to which they lead."""
+    rng = random.Random(seed)
+    return [(plan, *random_walk(rng, plan, many)) for plan in plans for many in lengths]
+
+
+def open_rounds(plan, standing, wait):
+    """The rounds in which a wait is open at a standing, each looked at (point 21)."""
+    first, second, distance = wait
+    return [
+        number for number in range(standing[first[0]] + 1)
+        if is_finished(plan[0], standing, (first, number))
+        and not is_finished(plan[0], standing, (second, number + distance))]
+
+
+def load(plan, standing):
+    """The load of a standing."""
+    return sum(len(open_rounds(plan, standing, wait)) for wait in plan[1])
+
+
+def first_not_held(plan):
+    """The first wait of a plan that lies on no circle, or None."""
+    table = gap_table(plan)
+    return next((wait for wait in plan[1] if (wait[1], wait[0]) not in table), None)
+
+
+def held_part(plan):
+    """The plan with those of its waits that are held."""
+    table = gap_table(plan)
+    return plan[0], tuple(wait for wait in plan[1] if (wait[1], wait[0]) in table)
+
+
+def random_sound(rng, sizes, many, distances=(0, 1, 2, 3)):
+    """A sound endless plan with at most so many waits: those with the distance 0 lead from lower to higher ranks."""
+    rank = {}
+    left = [list(range(size)) for size in sizes]
+    while any(left):
+        queue = rng.choice([queue for queue, places in enumerate(left) if places])
+        rank[queue, left[queue].pop(0)] = len(rank)
+    waits = [
+        (a, b, d) for a in rank for b in rank for d in distances
+        if a[0] != b[0] and (d > 0 or rank[a] < rank[b])]
+    return tuple(sizes), tuple(sorted(rng.sample(waits, min(many, len(waits)))))
+
+
+def random_sounds(seed, count, queues, largest, waits, distances=(0, 1, 2, 3)):
+    """Random sound plans with so many queues of at most so many jobs, and with so many waits, if they exist."""
+    rng = random.Random(seed)
+    plans = []
+    for _ in range(count):
+        sizes = [rng.randint(1, largest) for _ in range(rng.choice(queues))]
+        plans.append(random_sound(rng, sizes, rng.choice(waits), distances))
+    return plans
+
+
+def without(plan, wait):
+    """The plan without a wait."""
+    return plan[0], tuple(other for other in plan[1] if other != wait)
+
+
+# Two queues that go round together, and a third one that they stay ahead of, or that goes on alone.
+NOT_HELD = ((1, 2, 1), (((0, 0), (1, 0), 0), ((0, 0), (2, 0), 1), ((1, 1), (0, 0), 1)))
+# Two pairs of queues that do not wait for each other.
+TWO_PAIRS = ((1, 1, 1, 1), (
+    ((0, 0), (1, 0), 0), ((1, 0), (0, 0), 2), ((2, 0), (3, 0), 1), ((3, 0), (2, 0), 1)))
+# Two queues in which every job waits for one of the other queue.
+CROSSED = ((2, 2), (((0, 0), (1, 1), 0), ((0, 1), (1, 0), 1), ((1, 0), (0, 1), 1), ((1, 1), (0, 0), 3)))
+SOUNDS = (
+    random_sounds(21, 60, (2, 3), 2, (1, 2, 3, 4, 5, 6)) + random_sounds(22, 40, (2, 3, 4), 4, (4, 6, 8, 10, 12)) +
+    random_sounds(23, 30, (2, 3), 2, (2, 3, 4), (0, 1)) + random_sounds(24, 10, (2,), 1, (4, 5, 6)))
+HELD_PLANS = [SINGLE, ((2, 3), ()), PAIR, LINE, TWO_PAIRS, CROSSED] + [
+    plan for plan in map(held_part, SOUNDS) if plan[1]]
+NOT_HELD_PLANS = [NOT_HELD, APART] + [plan for plan in SOUNDS if first_not_held(plan) is not None]
+SMALL_HELD_PLANS = [plan for plan in HELD_PLANS if sum(plan[0]) <= 5 and len(plan[1]) <= 5]

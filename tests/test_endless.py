@@ -29,18 +29,6 @@ def is_endless_by_point_17(value):
     return list(waits) == sorted(set(waits))
 
 
-def circles_of(plan):
-    """All circles of a small plan, each as often as it has links, from each of them on."""
-    links = endless_samples.all_links(plan)
-    found = []
-    rows = [[link] for link in links]
-    while rows:
-        found += [row for row in rows if row[-1][1] == row[0][0]]
-        rows = [row + [link] for row in rows for link in links if row[-1][1] == link[0]]
-        rows = [row for row in rows if len({link[0] for link in row}) == len(row)]
-    return found
-
-
 class IsEndlessTest(EndlessTest):
     def check(self, value):
         self.assertIs(self.call(is_endless, value), is_endless_by_point_17(value))
@@ -114,7 +102,7 @@ class IsCircleTest(EndlessTest):
 
     def test_all_circles_of_small_plans(self):
         for plan in endless_samples.SMALL_PLANS:
-            circles = circles_of(plan)[:200]
+            circles = endless_samples.circles_of(plan)[:200]
             for circle in circles:
                 self.assertIs(is_circle(plan, circle), True)
                 self.check(plan, circle[::-1])
@@ -161,7 +149,8 @@ class ZeroCircleTest(EndlessTest):
 
     def test_against_all_circles_of_small_plans(self):
         for plan in endless_samples.SMALL_PLANS:
-            least = min(sum(distance for first, second, distance in circle) for circle in circles_of(plan))
+            circles = endless_samples.circles_of(plan)
+            least = min(sum(distance for first, second, distance in circle) for circle in circles)
             self.assertIs(zero_circle(plan) is None, least > 0)
 
     def test_a_long_circle(self):

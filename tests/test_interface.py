@@ -24,6 +24,10 @@ FUNCTIONS = {
     "endless": {"is_endless": 1, "links_of": 1, "is_circle": 2, "zero_circle": 1},
     "gaps": {"gap": 3, "gap_row": 3, "gap_heights": 3, "are_heights": 2, "is_ahead": 3},
     "standings": {"is_standing": 2, "finished_rounds": 3, "ready_queues": 2, "is_walk": 2, "walk_to": 2},
+    "opened": {"open_rounds": 3, "load": 2, "bound_of": 2, "full_standing": 2},
+    "thin": {"is_needed_wait": 2, "least_endless": 1, "parting_standing": 2},
+    "tours": {"is_tour": 2, "tour_length": 2, "shortest_tour": 1, "greatest_load": 1, "fullest_standing": 1},
+    "turning": {"is_turning": 2, "turning_clash": 2, "fewest_turning": 1, "turning_flags": 1},
 }
 # The methods of each class, with the number of their arguments beside the object itself.
 CLASSES = {

@@ -7,19 +7,10 @@ import samples
 from endless_checks import EndlessTest
 from flagplans.errors import UnknownJob
 from flagplans.standings import finished_rounds, is_standing, is_walk, ready_queues, walk_to
-from flagplans.wrongs import InvalidStanding
 
 HUGE = samples.HUGE
 SMALL = endless_samples.SMALL_SOUND_PLANS[:60]
 SOME_PLANS = endless_samples.SOUND_PLANS[:60] + endless_samples.SOUND_PLANS[-30:]
-
-
-def is_standing_by_point_20(plan, value):
-    if type(value) is not tuple or len(value) != len(plan[0]):
-        return False
-    if not all(type(many) is int and many >= 0 for many in value):
-        return False
-    return endless_samples.is_possible(plan, value)
 
 
 def is_walk_by_point_20(plan, value):
@@ -31,12 +22,6 @@ def is_walk_by_point_20(plan, value):
             return False
         standing = endless_samples.one_more(standing, queue)
     return True
-
-
-def walks(seed, plans, lengths):
-    """Some walks of each plan, with the standings to which they lead."""
-    rng = random.Random(seed)
-    return [(plan, *endless_samples.random_walk(rng, plan, many)) for plan in plans for many in lengths]
 
 
 class IsStandingTest(EndlessTest):
@@ -62,7 +47,7 @@ class IsStandingTest(EndlessTest):
                 self.assertIs(is_standing(plan, value), value in reached)
 
     def test_along_walks(self):
-        for plan, walk, _ in walks(1, SOME_PLANS, (12, 40)):
+        for plan, walk, _ in endless_samples.walks(1, SOME_PLANS, (12, 40)):
             standing = (0,) * len(plan[0])
             for queue in [None] + walk:
                 standing = standing if queue is None else endless_samples.one_more(standing, queue)
@@ -73,11 +58,11 @@ class IsStandingTest(EndlessTest):
             self.call(is_standing, plan, standing)
 
     def test_values_near_possible_standings(self):
-        for plan, _, standing in walks(2, SOME_PLANS, (0, 7)):
+        for plan, _, standing in endless_samples.walks(2, SOME_PLANS, (0, 7)):
             for value in samples.variants(standing) + [standing + (0,), standing[1:], list(standing)]:
                 if type(value) is tuple and any(type(many) is int and many > 99 for many in value):
                     continue
-                self.assertIs(is_standing(plan, value), is_standing_by_point_20(plan, value), (plan, value))
+                self.assertIs(is_standing(plan, value), endless_samples.is_standing(plan, value), (plan, value))
 
     def test_huge_numbers(self):
         free = ((1, 1), ())
@@ -93,7 +78,7 @@ class IsStandingTest(EndlessTest):
         for plan in SOME_PLANS[::5]:
             for value in samples.ODD_VALUES + [(), plan, plan[1], [0] * len(plan[0]), (False,) * len(plan[0])]:
                 if value not in ((HUGE,), (HUGE, HUGE)):
-                    self.assertIs(self.call(is_standing, plan, value), is_standing_by_point_20(plan, value))
+                    self.assertIs(self.call(is_standing, plan, value), endless_samples.is_standing(plan, value))
 
     def test_wrong_plans(self):
         self.check_invalid_endless(is_standing, (0, 0))
@@ -103,34 +88,26 @@ class IsStandingTest(EndlessTest):
 class InvalidStandingTest(EndlessTest):
     """The functions that take a possible standing only."""
 
-    def check_invalid_standing(self, function, *others):
-        for plan, _, standing in walks(3, SOME_PLANS[::3], (5,)):
-            odd = samples.ODD_VALUES + samples.variants(standing) + [list(standing), plan, plan[0] + (1,)]
-            beyond = [endless_samples.one_more(standing, queue) for queue in range(len(standing))]
-            for value in odd + beyond:
-                if not is_standing(plan, value):
-                    self.check_raises(InvalidStanding, function, plan, value, *others)
-
     def test_finished_rounds(self):
         for job in ((0, 0), (9, 9), None):
-            self.check_invalid_standing(finished_rounds, job)
+            self.check_invalid_standing(SOME_PLANS[::3], finished_rounds, job)
         self.check_invalid_endless(finished_rounds, (0, 0), (0, 0))
         self.check_stuck(finished_rounds, (0, 0), (0, 0))
 
     def test_ready_queues(self):
-        self.check_invalid_standing(ready_queues)
+        self.check_invalid_standing(SOME_PLANS[::3], ready_queues)
         self.check_invalid_endless(ready_queues, (0, 0))
         self.check_stuck(ready_queues, (0, 0))
 
     def test_walk_to(self):
-        self.check_invalid_standing(walk_to)
+        self.check_invalid_standing(SOME_PLANS[::3], walk_to)
         self.check_invalid_endless(walk_to, (0, 0))
         self.check_stuck(walk_to, (0, 0))
 
 
 class FinishedRoundsTest(EndlessTest):
     def test_the_number_of_finished_turns(self):
-        for plan, _, standing in walks(4, SOME_PLANS, (0, 1, 2, 3, 5, 9, 30)):
+        for plan, _, standing in endless_samples.walks(4, SOME_PLANS, (0, 1, 2, 3, 5, 9, 30)):
             finished = endless_samples.turns_of(plan[0], standing)
             for job in samples.all_jobs(plan[0]):
                 expected = len([turn for turn in finished if turn[0] == job])
@@ -148,7 +125,7 @@ class FinishedRoundsTest(EndlessTest):
                 self.assertEqual(finished_rounds(plan, (many, 0), (1, 1)), 0)
 
     def test_unknown_jobs(self):
-        for plan, _, standing in walks(5, SOME_PLANS[::6], (6,)):
+        for plan, _, standing in endless_samples.walks(5, SOME_PLANS[::6], (6,)):
             right = samples.all_jobs(plan[0])
             near = [(0, plan[0][0]), (len(plan[0]), 0), (-1, 0), (0, -1), standing, plan]
             for value in samples.ODD_VALUES + samples.variants(right[-1]) + near:
@@ -158,7 +135,7 @@ class FinishedRoundsTest(EndlessTest):
 
 class ReadyQueuesTest(EndlessTest):
     def test_along_walks(self):
-        for plan, walk, _ in walks(6, SOME_PLANS, (15, 60)):
+        for plan, walk, _ in endless_samples.walks(6, SOME_PLANS, (15, 60)):
             standing = (0,) * len(plan[0])
             for queue in walk:
                 self.assertTrue(samples.same_kind(
@@ -188,7 +165,7 @@ class IsWalkTest(EndlessTest):
 
     def test_walks_and_changed_walks(self):
         rng = random.Random(8)
-        for plan, walk, _ in walks(9, SOME_PLANS, (0, 4, 25)):
+        for plan, walk, _ in endless_samples.walks(9, SOME_PLANS, (0, 4, 25)):
             self.assertIs(self.call(is_walk, plan, walk), True)
             self.assertIs(is_walk(plan, tuple(walk)), False)
             for k in range(len(walk)):
@@ -211,11 +188,11 @@ class IsWalkTest(EndlessTest):
                 self.assertIs(self.call(is_walk, plan, value), is_walk_by_point_20(plan, value))
 
     def test_long_walks(self):
-        for plan, walk, _ in walks(10, SOME_PLANS[::6], (1500,)):
+        for plan, walk, _ in endless_samples.walks(10, SOME_PLANS[::6], (1500,)):
             self.assertIs(is_walk(plan, walk), True)
 
     def test_every_walk_can_be_gone_on_with(self):
-        for plan, walk, standing in walks(11, SOME_PLANS, (3, 30)):
+        for plan, walk, standing in endless_samples.walks(11, SOME_PLANS, (3, 30)):
             more = list(walk)
             while min(standing) <= 12:
                 ready = ready_queues(plan, standing)
@@ -242,7 +219,7 @@ class WalkToTest(EndlessTest):
                     self.check(plan, standing)
 
     def test_where_random_walks_lead(self):
-        for plan, _, standing in walks(12, SOME_PLANS, (0, 1, 11, 60)):
+        for plan, _, standing in endless_samples.walks(12, SOME_PLANS, (0, 1, 11, 60)):
             self.check(plan, standing)
             self.call(walk_to, plan, standing)
 
@@ -254,7 +231,7 @@ class WalkToTest(EndlessTest):
                 self.check(plan, standing)
 
     def test_400_turns(self):
-        for plan, _, standing in walks(14, SOME_PLANS[::6], (400,)):
+        for plan, _, standing in endless_samples.walks(14, SOME_PLANS[::6], (400,)):
             self.assertEqual(sum(standing), 400)
             self.check(plan, standing)
 
