@@ -32,7 +32,7 @@ def settle(nodes, links, weights):
     """Return a dict with right levels, and None; or None and a circle of links with weights of more than 0 together."""
     levels = {node: 0 for node in nodes}
     lifted = {}
-    # Without such a circle no level comes from a row with more links than there are nodes.
+    # Without such a circle no level rises by a row with more links than there are nodes.
     for _ in range(len(levels) + 1):
         last = lift(levels, lifted, links, weights)
         if last is None:

@@ -5,21 +5,12 @@ from flagplans.reach import check_endless_wait, gap_table, standing_with
 from flagplans.wrongs import InvalidEndless
 
 
-def way_on(table, job, second):
-    """Return the least distance of a row of at least one link from a job to the second one, or None."""
-    # No circle has the distance 0, and the way round a queue has the distance 1.
-    return 1 if job == second else table[job].get(second)
-
-
 def is_needless(plan, table, wait):
     """Return True if some row of at least two links leads as far as a wait of the plan, or less far."""
     first, second, distance = wait
-    for link in links_of(plan):
-        if link[0] == first:
-            rest = way_on(table, link[1], second)
-            if rest is not None and link[2] + rest <= distance:
-                return True
-    return False
+    # Instead of going round behind the second job, a row can as well go round the queue of the first job before.
+    links = [link for link in links_of(plan) if link[0] == first and link[1] != second]
+    return any(second in table[link[1]] and link[2] + table[link[1]][second] <= distance for link in links)
 
 
 def is_needed_wait(plan, wait):

@@ -105,7 +105,7 @@ def rounds_ahead(costs):
     """
     tour, levels = best_tour(costs)
     heights = {tour[number]: costs[number][tour[number]] - levels[number] for number in levels}
-    # In less rounds than the distance of its wait a second job would not close any round of the wait.
+    # Where a second job is finished in fewer rounds than the distance of its wait, the load could still become greater.
     least = max([costs[number][number] - heights[number] for number in heights], default=0)
     return [heights[number] + least for number in range(len(costs))]
 

@@ -56,10 +56,11 @@ def clashes_at(plan, flags, standing):
 
 
 def most_later(table, wait, other, limit):
-    """Return by how many rounds the other wait can be in a later round than a wait when both are open, at the most.
+    """Return by how many rounds the round of another wait can be later than that of a wait when both are open.
 
-    The limit is returned if there is no such number.
+    The limit is returned if it can be later by any number.
     """
+    # Where a row leads there, the other wait opens in still later rounds only when the wait is closed.
     back = table[wait[1]].get(other[0])
     return limit if back is None else wait[2] + back - 1
 

@@ -7,6 +7,21 @@ import samples
 from flagplans.errors import InvalidFlags, InvalidMoment, InvalidPlan, UnknownJob, UnknownWait, Unsound
 
 
+RIGHT = ("right",)
+
+
+def wrong(number):
+    return ("wrong", number)
+
+
+def first_fault(*conditions):
+    """What the checker or the judge has to return, from functions that tell in their order whether conditions hold."""
+    for number, holds in enumerate(conditions):
+        if not holds():
+            return wrong(number)
+    return RIGHT
+
+
 def lists_in(value):
     """All lists in a value, itself included."""
     found = [value] if isinstance(value, list) else []

@@ -1,8 +1,10 @@
 """Endless plans for the tests, and what the document says of them, worked out as directly as possible."""
 
 import random
+from functools import lru_cache
+from math import lcm
 
-from samples import HUGE, all_jobs
+from samples import HUGE, all_jobs, is_one_of
 
 
 def queue_links(sizes):
@@ -83,6 +85,28 @@ NO_PLANS = [
 ]
 
 
+def is_tuple_of(value, least, most):
+    return type(value) is tuple and least <= len(value) <= most
+
+
+def is_endless(value):
+    """Whether a value is an endless plan, one condition of the point after the other."""
+    if not is_tuple_of(value, 2, 2):
+        return False
+    sizes, waits = value
+    if not is_tuple_of(sizes, 1, 4) or not all(type(size) is int and 1 <= size <= 4 for size in sizes):
+        return False
+    if not is_tuple_of(waits, 0, 12):
+        return False
+    jobs = all_jobs(sizes)
+    for wait in waits:
+        if not is_tuple_of(wait, 3, 3) or type(wait[2]) is not int or wait[2] not in (0, 1, 2, 3):
+            return False
+        if not is_one_of(wait[0], jobs) or not is_one_of(wait[1], jobs) or wait[0][0] == wait[1][0]:
+            return False
+    return list(waits) == sorted(set(waits))
+
+
 def is_link(plan, value):
     """Whether a value is a link of the plan, with integers throughout."""
     if type(value) is not tuple or len(value) != 3 or type(value[2]) is not int:
@@ -139,6 +163,22 @@ def gap_table(plan):
                     through = least[first, middle] + least[middle, second]
                     least[first, second] = min(through, least.get((first, second), through))
     return least
+
+
+def has_an_integer_for_each_job(plan, value):
+    """Whether a value is a tuple with a tuple for each queue, with an integer for each of its jobs."""
+    if type(value) is not tuple or len(value) != len(plan[0]):
+        return False
+    return all(
+        type(row) is tuple and len(row) == size and all(type(entry) is int for entry in row)
+        for row, size in zip(value, plan[0]))
+
+
+def are_heights(plan, value):
+    """Whether a value is heights of the plan (point 19)."""
+    if not has_an_integer_for_each_job(plan, value):
+        return False
+    return all(value[b[0]][b[1]] - value[a[0]][a[1]] <= distance for a, b, distance in all_links(plan))
 
 
 def turns_of(sizes, standing):
@@ -237,16 +277,125 @@ def load(plan, standing):
     return sum(len(open_rounds(plan, standing, wait)) for wait in plan[1])
 
 
+def rows_within(plan, start, most):
+    """All (job, distance, number of links up to 2) to which rows of at most this distance lead from a job."""
+    found = {(start, 0, 0)}
+    waiting = list(found)
+    while waiting:
+        job, distance, many = waiting.pop()
+        for first, second, more in all_links(plan):
+            reached = (second, distance + more, min(many + 1, 2))
+            if first == job and distance + more <= most and reached not in found:
+                found.add(reached)
+                waiting.append(reached)
+    return found
+
+
+def is_needless(plan, wait):
+    """Whether a row of two links or more leads as far as the wait, or less far (point 22)."""
+    return any(
+        job == wait[1] and many == 2 for job, distance, many in rows_within(plan, wait[0], wait[2]))
+
+
+def least_plan(plan):
+    """The plan with just the waits that are not needless."""
+    return plan[0], tuple(wait for wait in plan[1] if not is_needless(plan, wait))
+
+
+def flag_of(flags, number, turn_round):
+    """The flag of the wait with this number in a round."""
+    row = flags[number]
+    return row[turn_round % len(row)]
+
+
+@lru_cache(maxsize=None)
+def ahead_of_opening(plan, rounds):
+    """For each (number of a wait, round): all turns that are finished wherever the wait is open in the round."""
+    found = {}
+    for number, (first, _, _) in enumerate(plan[1]):
+        for turn_round in range(rounds):
+            turn = (first, turn_round)
+            found[number, turn_round] = turns_ahead(plan, turn) | {turn}
+    return found
+
+
+def has_clash(plan, flags):
+    """Whether two waits, or one in two rounds, can be open together with one flag, by what the links mean.
+
+    They can be exactly if what must be finished for the two openings does not close one of them. In the rounds that are
+    looked at, short rows come to stand beside each other in all ways, and farther apart than any gap.
+    """
+    rounds = lcm(*[len(row) for row in flags]) + 16
+    ahead = ahead_of_opening(plan, rounds)
+    closing = {
+        (number, turn_round): (second, turn_round + distance)
+        for number, (_, second, distance) in enumerate(plan[1]) for turn_round in range(rounds)}
+    for one in ahead:
+        for other in ahead:
+            if one < other and flag_of(flags, *one) == flag_of(flags, *other):
+                if all(closing[opened] not in ahead[turn] for opened in (one, other) for turn in (one, other)):
+                    return True
+    return False
+
+
 def first_not_held(plan):
     """The first wait of a plan that lies on no circle, or None."""
     table = gap_table(plan)
     return next((wait for wait in plan[1] if (wait[1], wait[0]) not in table), None)
 
 
+def length_of(plan, table, order):
+    """The sum of the distances and of the gaps to the waits that follow, or None if a row is missing (point 23)."""
+    total = 0
+    for number, following in enumerate(order):
+        wait, other = plan[1][number], plan[1][following]
+        if (wait[1], other[0]) not in table:
+            return None
+        total += wait[2] + table[wait[1], other[0]]
+    return total
+
+
+def is_tour(plan, table, value):
+    """Whether a value is a tour of the plan with these gaps (point 23)."""
+    if type(value) is not tuple or not all(type(number) is int for number in value):
+        return False
+    if sorted(value) != list(range(len(plan[1]))):
+        return False
+    return length_of(plan, table, value) is not None
+
+
+@lru_cache(maxsize=None)
+def shortest_length(plan):
+    """The length of a shortest tour of a held plan: what follows the first waits may be any set of as many waits."""
+    table = gap_table(plan)
+    least = {frozenset(): 0}
+    for first, second, distance in plan[1]:
+        longer = {}
+        for taken, length in least.items():
+            for number, other in enumerate(plan[1]):
+                if number not in taken and (second, other[0]) in table:
+                    more = length + distance + table[second, other[0]]
+                    longer[taken | {number}] = min(more, longer.get(taken | {number}, more))
+        least = longer
+    return min(least.values())
+
+
 def held_part(plan):
     """The plan with those of its waits that are held."""
     table = gap_table(plan)
     return plan[0], tuple(wait for wait in plan[1] if (wait[1], wait[0]) in table)
+
+
+def is_turning(plan, value):
+    """Whether a value is turning flags for the plan (point 24)."""
+    if type(value) is not tuple or len(value) != len(plan[1]):
+        return False
+    for row in value:
+        if type(row) is not tuple or not 1 <= len(row) <= 500:
+            return False
+        if not all(type(flag) is int and 0 <= flag <= 499 for flag in row):
+            return False
+    return True
 
 
 def random_sound(rng, sizes, many, distances=(0, 1, 2, 3)):

@@ -3,7 +3,7 @@ import unittest
 from itertools import combinations, permutations
 
 import samples
-from checks import FunctionTest
+from checks import RIGHT, FunctionTest, first_fault, wrong
 from flagplans.checker import check
 from flagplans.errors import InvalidPlan, NotACertificate
 from flagplans.fewest import assign_flags
@@ -13,21 +13,8 @@ from flagplans.opening import busiest_moment
 from flagplans.order import shortest_ring
 from flagplans.runs import least_run
 
-RIGHT = ("right",)
 LENGTHS = {"ring": 3, "run": 3, "least": 3, "clash": 4, "fewest": 4}
 SOME_PLANS = samples.SOUND_PLANS[:30] + samples.MIXED_PLANS[:20] + samples.RING_PLANS
-
-
-def wrong(number):
-    return ("wrong", number)
-
-
-def first_fault(*conditions):
-    """What the checker has to return, from functions that tell whether each condition holds, in their order."""
-    for number, holds in enumerate(conditions):
-        if not holds():
-            return wrong(number)
-    return RIGHT
 
 
 def are_jobs(plan, value):

@@ -7,31 +7,9 @@ from endless_checks import EndlessTest
 from flagplans.endless import is_circle, is_endless, links_of, zero_circle
 
 
-def is_tuple_of(value, least, most):
-    return type(value) is tuple and least <= len(value) <= most
-
-
-def is_endless_by_point_17(value):
-    """Whether a value is an endless plan, one condition of the point after the other."""
-    if not is_tuple_of(value, 2, 2):
-        return False
-    sizes, waits = value
-    if not is_tuple_of(sizes, 1, 4) or not all(type(size) is int and 1 <= size <= 4 for size in sizes):
-        return False
-    if not is_tuple_of(waits, 0, 12):
-        return False
-    jobs = samples.all_jobs(sizes)
-    for wait in waits:
-        if not is_tuple_of(wait, 3, 3) or type(wait[2]) is not int or wait[2] not in (0, 1, 2, 3):
-            return False
-        if not samples.is_one_of(wait[0], jobs) or not samples.is_one_of(wait[1], jobs) or wait[0][0] == wait[1][0]:
-            return False
-    return list(waits) == sorted(set(waits))
-
-
 class IsEndlessTest(EndlessTest):
     def check(self, value):
-        self.assertIs(self.call(is_endless, value), is_endless_by_point_17(value))
+        self.assertIs(self.call(is_endless, value), endless_samples.is_endless(value))
 
     def test_endless_plans(self):
         for plan in endless_samples.PLANS:
@@ -40,7 +18,7 @@ class IsEndlessTest(EndlessTest):
     def test_changed_plans(self):
         for plan in endless_samples.PLANS[:12] + endless_samples.STUCK_PLANS[:6]:
             for value in samples.variants(plan):
-                self.assertIs(is_endless(value), is_endless_by_point_17(value), value)
+                self.assertIs(is_endless(value), endless_samples.is_endless(value), value)
 
     def test_all_sizes(self):
         for size in range(-1, 8):

@@ -24,15 +24,6 @@ def with_height(heights, job, height):
     return tuple(map(tuple, rows))
 
 
-def are_heights_by_point_19(plan, value):
-    if type(value) is not tuple or len(value) != len(plan[0]):
-        return False
-    for row, size in zip(value, plan[0]):
-        if type(row) is not tuple or len(row) != size or not all(type(height) is int for height in row):
-            return False
-    return all(value[b[0]][b[1]] - value[a[0]][a[1]] <= distance for a, b, distance in endless_samples.all_links(plan))
-
-
 class GapTest(EndlessTest):
     def test_all_pairs_of_jobs(self):
         for plan in endless_samples.SOUND_PLANS:
@@ -98,7 +89,7 @@ class GapHeightsTest(EndlessTest):
             for first in samples.all_jobs(plan[0]):
                 for second in samples.all_jobs(plan[0]):
                     heights = gap_heights(plan, first, second)
-                    self.assertTrue(are_heights_by_point_19(plan, heights))
+                    self.assertTrue(endless_samples.are_heights(plan, heights))
                     self.assertIs(are_heights(plan, heights), True)
                     difference = heights[second[0]][second[1]] - heights[first[0]][first[1]]
                     self.assertEqual(difference, table.get((first, second), 100))
@@ -113,7 +104,7 @@ class GapHeightsTest(EndlessTest):
 
 class AreHeightsTest(EndlessTest):
     def check(self, plan, value):
-        self.assertIs(are_heights(plan, value), are_heights_by_point_19(plan, value), (plan, value))
+        self.assertIs(are_heights(plan, value), endless_samples.are_heights(plan, value), (plan, value))
 
     def test_heights_moved_as_a_whole_and_changed(self):
         rng = random.Random(1)
@@ -147,7 +138,7 @@ class AreHeightsTest(EndlessTest):
     def test_any_value(self):
         for plan in SOME_PLANS[::4]:
             for value in samples.ODD_VALUES + [(), plan, plan[0], plan[1], ((0,),), ((0,), (0,))]:
-                self.assertIs(self.call(are_heights, plan, value), are_heights_by_point_19(plan, value))
+                self.assertIs(self.call(are_heights, plan, value), endless_samples.are_heights(plan, value))
 
     def test_wrong_plans(self):
         self.check_invalid_endless(are_heights, ((0,), (0,)))

@@ -28,12 +28,21 @@ FUNCTIONS = {
     "thin": {"is_needed_wait": 2, "least_endless": 1, "parting_standing": 2},
     "tours": {"is_tour": 2, "tour_length": 2, "shortest_tour": 1, "greatest_load": 1, "fullest_standing": 1},
     "turning": {"is_turning": 2, "turning_clash": 2, "fewest_turning": 1, "turning_flags": 1},
+    "pace": {"pace": 2, "critical_circle": 2, "timetable": 2, "is_timetable": 4},
+    "rounds": {"first_rounds": 2},
+    "runner": {"clashing_choices": 2},
+    "records": {"judge": 1},
 }
 # The methods of each class, with the number of their arguments beside the object itself.
 CLASSES = {
     "workspace": {"Workspace": {
         "__init__": 1, "add_job": 1, "add_wait": 2, "finish": 1, "take_back": 0, "mark": 0, "back": 1, "plan": 0,
         "finished": 0, "marks": 0, "ready": 0, "open_waits": 0, "flags_needed": 0}},
+    "mill": {"Mill": {
+        "__init__": 1, "add_wait": 3, "drop_wait": 1, "do": 1, "take_back": 0, "mark": 0, "back": 1, "plan": 0,
+        "turns": 0, "standing": 0, "marks": 0, "ready": 0, "opened": 0, "needed_flags": 0}},
+    "runner": {"Runner": {
+        "__init__": 2, "step": 1, "next_step": 1, "blocked": 0, "clashing": 0, "up": 0, "turns": 0, "standing": 0}},
 }
 
 

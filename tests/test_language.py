@@ -120,6 +120,8 @@ class LanguageTest(unittest.TestCase):
                 if isinstance(node, ast.stmt):
                     self.assertIsInstance(node, STATEMENTS, f"{path.name} line {node.lineno}")
                 self.assertNotIsInstance(node, (ast.Div, ast.Await), path.name)
+                # Some of these are allowed in some places; the package does without them.
+                self.assertNotIsInstance(node, (ast.Starred, ast.Lambda, ast.Yield, ast.YieldFrom, ast.NamedExpr))
                 self.assertFalse(isinstance(node, ast.Constant) and isinstance(node.value, (float, complex)), path.name)
 
     def test_names(self):

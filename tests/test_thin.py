@@ -10,40 +10,14 @@ from flagplans.wrongs import InvalidEndless, Stuck
 
 PLANS = endless_samples.HELD_PLANS + endless_samples.NOT_HELD_PLANS + endless_samples.SOUND_PLANS[:40]
 PAIR = endless_samples.PAIR
-
-
-def rows_within(plan, start, most):
-    """All (job, distance, number of links up to 2) to which rows of at most this distance lead from a job."""
-    found = {(start, 0, 0)}
-    waiting = list(found)
-    while waiting:
-        job, distance, many = waiting.pop()
-        for first, second, more in endless_samples.all_links(plan):
-            reached = (second, distance + more, min(many + 1, 2))
-            if first == job and distance + more <= most and reached not in found:
-                found.add(reached)
-                waiting.append(reached)
-    return found
-
-
-def is_needless(plan, wait):
-    """Whether a row of two links or more leads as far as the wait, or less far (point 22)."""
-    return any(
-        job == wait[1] and many == 2 for job, distance, many in rows_within(plan, wait[0], wait[2]))
-
-
-def least_plan(plan):
-    return plan[0], tuple(wait for wait in plan[1] if not is_needless(plan, wait))
-
-
-LEAST = [least_plan(plan) for plan in PLANS]
+LEAST = [endless_samples.least_plan(plan) for plan in PLANS]
 
 
 def needless_waits(plan):
     """All waits that the plan has not and that rows of it make needless."""
     jobs = samples.all_jobs(plan[0])
     waits = [(a, b, d) for a in jobs for b in jobs if a[0] != b[0] for d in range(4)]
-    return [wait for wait in waits if wait not in plan[1] and is_needless(plan, wait)]
+    return [wait for wait in waits if wait not in plan[1] and endless_samples.is_needless(plan, wait)]
 
 
 def with_waits(plan, waits):
@@ -131,7 +105,7 @@ class LeastEndlessTest(EndlessTest):
 class PartingStandingTest(EndlessTest):
     def check(self, plan, other):
         standing = self.call(parting_standing, plan, other)
-        if least_plan(plan) == least_plan(other):
+        if endless_samples.least_plan(plan) == endless_samples.least_plan(other):
             self.assertIsNone(standing)
         else:
             self.assertTrue(

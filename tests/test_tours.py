@@ -15,31 +15,12 @@ PAIR = endless_samples.PAIR
 NO_WAITS = [plan for plan in PLANS if not plan[1]]
 
 
-def length_of(plan, table, order):
-    """The sum of the distances and of the gaps to the waits that follow, or None if a row is missing (point 23)."""
-    total = 0
-    for number, following in enumerate(order):
-        wait, other = plan[1][number], plan[1][following]
-        if (wait[1], other[0]) not in table:
-            return None
-        total += wait[2] + table[wait[1], other[0]]
-    return total
-
-
-def is_tour_by_point_23(plan, table, value):
-    if type(value) is not tuple or not all(type(number) is int for number in value):
-        return False
-    if sorted(value) != list(range(len(plan[1]))):
-        return False
-    return length_of(plan, table, value) is not None
-
-
 class TourTest(EndlessTest):
     def check(self, plan, table, value):
-        expected = is_tour_by_point_23(plan, table, value)
+        expected = endless_samples.is_tour(plan, table, value)
         self.assertIs(is_tour(plan, value), expected, (plan, value))
         if expected:
-            self.assertTrue(samples.same_kind(tour_length(plan, value), length_of(plan, table, value)))
+            self.assertTrue(samples.same_kind(tour_length(plan, value), endless_samples.length_of(plan, table, value)))
         else:
             self.check_raises(InvalidTour, tour_length, plan, value)
 
@@ -48,7 +29,7 @@ class TourTest(EndlessTest):
             table = endless_samples.gap_table(plan)
             lengths = []
             for order in permutations(range(len(plan[1]))):
-                length = length_of(plan, table, order)
+                length = endless_samples.length_of(plan, table, order)
                 if len(plan[1]) <= 4:
                     self.check(plan, table, order)
                 if length is not None:
@@ -56,7 +37,7 @@ class TourTest(EndlessTest):
             self.check(plan, table, tuple(range(len(plan[1]))))
             found = self.call(shortest_tour, plan)
             self.check(plan, table, found)
-            self.assertEqual(length_of(plan, table, found), min(lengths))
+            self.assertEqual(endless_samples.length_of(plan, table, found), min(lengths))
             self.assertTrue(samples.same_kind(self.call(greatest_load, plan), min(lengths)))
 
     def test_what_follows_is_at_the_entry_of_the_number(self):
@@ -66,7 +47,7 @@ class TourTest(EndlessTest):
                 table = endless_samples.gap_table(plan)
                 for order in permutations(range(len(plan[1]))):
                     other = tuple(order.index(number) for number in range(len(order)))
-                    if length_of(plan, table, order) != length_of(plan, table, other):
+                    if endless_samples.length_of(plan, table, order) != endless_samples.length_of(plan, table, other):
                         turned += 1
                         self.check(plan, table, order)
         self.assertGreater(turned, 20)
@@ -117,12 +98,13 @@ class LoadTest(EndlessTest):
         for plan in PLANS:
             table = endless_samples.gap_table(plan)
             tour = shortest_tour(plan)
-            self.assertTrue(is_tour_by_point_23(plan, table, tour))
+            self.assertTrue(endless_samples.is_tour(plan, table, tour))
             standing = self.call(fullest_standing, plan)
             self.check_possible(plan, standing)
             # Each of these two numbers cannot be beyond the other one, so that both are the best ones.
-            self.assertEqual(endless_samples.load(plan, standing), length_of(plan, table, tour))
-            self.assertEqual(greatest_load(plan), length_of(plan, table, tour))
+            self.assertEqual(endless_samples.load(plan, standing), endless_samples.length_of(plan, table, tour))
+            self.assertEqual(greatest_load(plan), endless_samples.length_of(plan, table, tour))
+            self.assertEqual(greatest_load(plan), endless_samples.shortest_length(plan))
 
     def test_plans_with_twelve_waits(self):
         most = [plan for plan in PLANS if len(plan[1]) == 12]

@@ -17,56 +17,10 @@ PAIR = endless_samples.PAIR
 HUGE = samples.HUGE
 
 
-def is_turning_by_point_24(plan, value):
-    if type(value) is not tuple or len(value) != len(plan[1]):
-        return False
-    for row in value:
-        if type(row) is not tuple or not 1 <= len(row) <= 500:
-            return False
-        if not all(type(flag) is int and 0 <= flag <= 499 for flag in row):
-            return False
-    return True
-
-
-def flag_of(flags, number, turn_round):
-    row = flags[number]
-    return row[turn_round % len(row)]
-
-
-def ahead_of_opening(plan, rounds):
-    """For each (number of a wait, round): all turns that are finished wherever the wait is open in the round."""
-    found = {}
-    for number, (first, _, _) in enumerate(plan[1]):
-        for turn_round in range(rounds):
-            turn = (first, turn_round)
-            found[number, turn_round] = endless_samples.turns_ahead(plan, turn) | {turn}
-    return found
-
-
-def has_clash(plan, flags):
-    """Whether two waits, or one in two rounds, can be open together with one flag, by what the links mean.
-
-    What must be finished for two openings does not finish them exactly if they are open together somewhere. In the
-    rounds that are looked at, the rows come to stand beside each other in all ways, and farther apart than any gap.
-    """
-    rounds = lcm(*[len(row) for row in flags]) + 16
-    ahead = ahead_of_opening(plan, rounds)
-    closing = {
-        (number, turn_round): (second, turn_round + distance)
-        for number, (_, second, distance) in enumerate(plan[1]) for turn_round in range(rounds)}
-    for one in ahead:
-        for other in ahead:
-            if one < other and flag_of(flags, *one) == flag_of(flags, *other):
-                turns = ahead[one] | ahead[other]
-                if closing[one] not in turns and closing[other] not in turns:
-                    return True
-    return False
-
-
 def clashes_at(plan, flags, standing):
     """Whether two different tuples (number of a wait, round) that are open at the standing have one flag."""
     used = [
-        flag_of(flags, number, turn_round)
+        endless_samples.flag_of(flags, number, turn_round)
         for number, wait in enumerate(plan[1])
         for turn_round in endless_samples.open_rounds(plan, standing, wait)]
     return len(set(used)) < len(used)
@@ -90,13 +44,13 @@ class TurningTest(EndlessTest):
             number, turn_round = entry
             self.assertIn(number, range(len(plan[1])))
             self.assertIn(turn_round, endless_samples.open_rounds(plan, standing, plan[1][number]))
-        self.assertEqual(flag_of(flags, *one), flag_of(flags, *other))
+        self.assertEqual(endless_samples.flag_of(flags, *one), endless_samples.flag_of(flags, *other))
 
 
 class IsTurningTest(TurningTest):
     def check(self, plan, value):
-        self.assertIs(is_turning(plan, value), is_turning_by_point_24(plan, value))
-        if not is_turning_by_point_24(plan, value):
+        self.assertIs(is_turning(plan, value), endless_samples.is_turning(plan, value))
+        if not endless_samples.is_turning(plan, value):
             self.check_raises(InvalidTurning, turning_clash, plan, value)
 
     def test_lengths_of_rows(self):
@@ -145,7 +99,7 @@ class ClashTest(TurningTest):
         found = self.call(turning_clash, plan, flags)
         if found is not None:
             self.check_clash(plan, flags, found)
-        clash = has_clash(plan, flags) if expected is None else expected
+        clash = endless_samples.has_clash(plan, flags) if expected is None else expected
         self.assertIs(found is not None, clash, (plan, flags))
 
     def test_drawn_flags(self):
@@ -180,7 +134,7 @@ class ClashTest(TurningTest):
                 (((0, 1), (2, 3, 4), (5,)), False), (((0, 1), (2, 3, 0), (5,)), True),
                 (((0, 1, 0, 1), (1, 0), (5,)), False), (((0, 1, 0, 1), (1, 0, 1, 0, 1, 0, 1, 1), (5,)), True)):
             self.check(plan, rows, expected)
-            self.assertIs(has_clash(plan, rows), expected)
+            self.assertIs(endless_samples.has_clash(plan, rows), expected)
 
     def test_queues_that_do_not_wait_for_each_other(self):
         plan = endless_samples.TWO_PAIRS
@@ -243,7 +197,7 @@ class FewestTest(TurningTest):
     def test_clean_flags_with_just_the_integers_below(self):
         for plan in PLANS:
             flags = self.call(turning_flags, plan)
-            self.assertIs(is_turning_by_point_24(plan, flags), True)
+            self.assertIs(endless_samples.is_turning(plan, flags), True)
             self.assertIsNone(turning_clash(plan, flags))
             self.assertEqual({flag for row in flags for flag in row}, set(range(fewest_turning(plan))))
 
@@ -251,7 +205,7 @@ class FewestTest(TurningTest):
         for plan in SMALL:
             flags = turning_flags(plan)
             if flags and lcm(*map(len, flags)) <= 30:
-                self.assertIs(has_clash(plan, flags), False)
+                self.assertIs(endless_samples.has_clash(plan, flags), False)
 
     def test_they_are_clean_along_walks(self):
         for plan, walk, _ in endless_samples.walks(7, PLANS[::2], (70,)):

@@ -1,4 +1,3 @@
-import copy
 import random
 import unittest
 from functools import lru_cache
@@ -8,16 +7,9 @@ from flagplans import errors
 from flagplans.least import least_plan
 from flagplans.runs import is_run, least_run
 from flagplans.workspace import Workspace
+from twins import BooksWithMarks, Refused, Twin, is_number
 
 NO_JOBS = samples.ODD_VALUES + [(), (0, 6), (4, 0), (0, 0, 0), [0, 0], (0, None), ("0", 0)]
-
-
-class Refused(Exception):
-    """The class of the error that the document names, the name of its attribute, if it has one, and the value."""
-
-
-def is_number(value, limit):
-    return type(value) is int and 0 <= value < limit
 
 
 @lru_cache(maxsize=None)
@@ -27,14 +19,13 @@ def flags_needed(plan):
     return max(len(samples.open_at(thinner, moment)) for moment in samples.possible_moments(plan))
 
 
-class Books:
+class Books(BooksWithMarks):
     """What a workspace has to answer, by point 15 and the interface."""
 
     def __init__(self, number):
         if not (type(number) is int and number in (1, 2, 3, 4)):
             raise Refused(errors.InvalidNumber, None, None)
-        self.state = [[0] * number, [], []]
-        self.stored = []
+        BooksWithMarks.__init__(self, [[0] * number, [], []])
 
     def plan(self):
         sizes, waits, _ = self.state
@@ -42,9 +33,6 @@ class Books:
 
     def finished(self):
         return list(self.state[2])
-
-    def marks(self):
-        return list(range(len(self.stored)))
 
     def ready(self):
         pairs = samples.direct_pairs(self.plan())
@@ -102,69 +90,16 @@ class Books:
             raise Refused(errors.NothingFinished, None, None)
         return self.state[2].pop()
 
-    def mark(self):
-        if len(self.stored) == 6:
-            raise Refused(errors.Full, "limit", 6)
-        self.stored.append(copy.deepcopy(self.state))
-        return len(self.stored) - 1
-
-    def back(self, number):
-        if not is_number(number, len(self.stored)):
-            raise Refused(errors.InvalidMark, "number", number)
-        self.state = copy.deepcopy(self.stored[number])
-        del self.stored[number + 1:]
-
 
 FREQUENT = ["add_wait", "finish"] * 6
 LOOKS = ("plan", "finished", "marks", "ready", "open_waits", "flags_needed")
 
 
-class Pair:
-    """A workspace and the books for it, which are asked the same."""
+class Pair(Twin):
+    """A workspace and the books for it."""
 
     def __init__(self, test, number):
-        self.test = test
-        self.space = Workspace(number)
-        self.books = Books(number)
-        self.kept = []
-        self.seen = set()
-
-    def look(self):
-        """Compare all that the workspace tells of itself; what it has told stays as it is."""
-        for name in LOOKS:
-            result = getattr(self.space, name)()
-            expected = getattr(self.books, name)()
-            self.test.assertTrue(samples.same_kind(result, expected), (name, result, expected))
-            if isinstance(result, list):
-                again = getattr(self.space, name)()
-                self.test.assertIsNot(again, result)
-                again.append("more")
-                self.kept.append((result, expected))
-        self.test.assertTrue(samples.same_kind(self.space.plan(), self.books.plan()))
-
-    def ask(self, name, *arguments):
-        """Call a method of both and compare what comes; then compare all that they tell of themselves."""
-        before = copy.deepcopy(arguments)
-        try:
-            expected = getattr(self.books, name)(*arguments)
-        except Refused as refusal:
-            error, attribute, value = refusal.args
-            self.seen.add((name, error.__name__))
-            with self.test.assertRaises(error) as caught:
-                getattr(self.space, name)(*arguments)
-            self.test.assertIs(caught.exception.__class__, error)
-            if attribute is not None:
-                self.test.assertTrue(samples.same_kind(getattr(caught.exception, attribute), value))
-        else:
-            result = getattr(self.space, name)(*arguments)
-            self.test.assertTrue(samples.same_kind(result, expected), (name, arguments, result, expected))
-            self.seen.add((name, "returned"))
-        self.test.assertTrue(samples.same_kind(arguments, before))
-        self.look()
-
-    def check_kept(self):
-        for result, expected in self.kept:
-            self.test.assertEqual(result, expected)
+        Twin.__init__(self, test, Workspace(number), Books(number), LOOKS)
 
     def some_job(self, rng):
         jobs = samples.all_jobs(self.books.state[0])
@@ -254,7 +189,7 @@ class LimitsTest(unittest.TestCase):
             pair.ask("add_job", queue)
         for wait in plan[1]:
             pair.ask("add_wait", *wait)
-        self.assertEqual(pair.space.plan(), plan)
+        self.assertEqual(pair.real.plan(), plan)
         run = least_run(plan)
         pair.ask("mark")
         for job in run:
@@ -263,8 +198,8 @@ class LimitsTest(unittest.TestCase):
             pair.ask("add_wait", (3, 5), (1, 0))
             pair.ask("finish", job)
             pair.ask("finish", job)
-        self.assertEqual(pair.space.finished(), list(run))
-        self.assertTrue(is_run(pair.space.plan(), tuple(pair.space.finished())))
+        self.assertEqual(pair.real.finished(), list(run))
+        self.assertTrue(is_run(pair.real.plan(), tuple(pair.real.finished())))
         for wait in plan[1]:
             pair.ask("add_wait", *wait)
             pair.ask("add_wait", *wait[::-1])
@@ -289,9 +224,9 @@ class LimitsTest(unittest.TestCase):
         pair.ask("add_wait", (0, 0), (1, 0))
         pair.ask("add_wait", (0, 1), (1, 0))
         pair.ask("finish", (0, 0))
-        self.assertEqual(pair.space.open_waits(), [])
-        self.assertEqual(pair.space.flags_needed(), 1)
-        self.assertEqual(least_plan(pair.space.plan())[1], (((0, 1), (1, 0)),))
+        self.assertEqual(pair.real.open_waits(), [])
+        self.assertEqual(pair.real.flags_needed(), 1)
+        self.assertEqual(least_plan(pair.real.plan())[1], (((0, 1), (1, 0)),))
 
     def test_a_wait_for_a_job_behind_a_finished_one(self):
         pair = self.full(((2, 2), ()))
@@ -300,7 +235,7 @@ class LimitsTest(unittest.TestCase):
         pair.ask("add_wait", (0, 0), (1, 1))
         pair.ask("finish", (1, 1))
         pair.ask("add_wait", (1, 0), (0, 1))
-        self.assertEqual(pair.space.finished(), [(1, 0)])
+        self.assertEqual(pair.real.finished(), [(1, 0)])
 
     def test_numbers_of_queues(self):
         for number in (1, 2, 3, 4):
@@ -326,7 +261,7 @@ class MarksTest(unittest.TestCase):
 
     def test_six_marks(self):
         pair = self.with_marks()
-        self.assertEqual(pair.space.marks(), [0, 1, 2, 3, 4, 5])
+        self.assertEqual(pair.real.marks(), [0, 1, 2, 3, 4, 5])
         self.assertIn(("mark", "Full"), pair.seen)
 
     def test_returns_to_each_mark_and_later_marks_are_gone(self):
@@ -334,7 +269,7 @@ class MarksTest(unittest.TestCase):
             for second in range(7):
                 pair = self.with_marks()
                 pair.ask("back", first)
-                self.assertEqual(pair.space.marks(), list(range(first + 1)))
+                self.assertEqual(pair.real.marks(), list(range(first + 1)))
                 pair.ask("add_job", 1)
                 pair.ask("finish", (1, 0))
                 pair.ask("back", second)
@@ -360,7 +295,7 @@ class MarksTest(unittest.TestCase):
         pair.ask("take_back")
         pair.ask("finish", (0, 0))
         pair.ask("back", 0)
-        self.assertEqual(pair.space.finished(), [(1, 0), (0, 0)])
+        self.assertEqual(pair.real.finished(), [(1, 0), (0, 0)])
 
 
 if __name__ == "__main__":
